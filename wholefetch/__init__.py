@@ -1,0 +1,1 @@
+"""Wholefetch: files fetched in pieces while they change."""
