@@ -2,6 +2,9 @@
 
 import itertools
 import random
+import unittest
+
+from wholefetch.errors import BadFetch, BadQuestion
 
 ONE_PLACE = (("a", None),)
 CHAIN = (("a", None), ("b", "a"), ("c", "b"), ("d", "c"))
@@ -16,6 +19,7 @@ HOUSES = (
     (("a", "b"), ("b", "c"), ("c", None)),
     (("a", None), ("b", "a"), ("c", "a")),
 )
+ALL_HOUSES = HOUSES + (CHAIN, TREE, FULL)
 WORDS = ("same", "upto", "newer")
 HUGE = 10 ** 5000
 
@@ -76,12 +80,12 @@ def odd_things():
     return plain + held + [(thing, thing) for thing in plain] + [(thing,) * 4 for thing in plain]
 
 
-def some_fetches(seed, many, fewest, most, span=4, checks=3):
+def some_fetches(seed, many, fewest, most, span=4, checks=3, houses=HOUSES):
     """So many FETCHes, the same ones each time, with from fewest to most READs."""
     chance = random.Random(seed)
     told = []
     for _ in range(many):
-        house = chance.choice(HOUSES)
+        house = chance.choice(houses)
         spans = []
         for _ in range(chance.randint(fewest, most)):
             begin = chance.randrange(span)
@@ -184,12 +188,140 @@ def arrows_by_words(fetch):
     return told
 
 
-def gap_by_words(fetch, one, other):
-    """The GAP of a FETCH that is possible: the most STRICT ARROWs of WAYs that come to no READ twice."""
+def gaps_by_words(fetch):
+    """All GAPs of a FETCH that is possible, as a list of lists: the most STRICT ARROWs of WAYs."""
     told = arrows_by_words(fetch)
+    return [gaps_from(told, len(fetch[2]), one) for one in range(len(fetch[2]))]
+
+
+def gaps_from(told, many, one):
+    """The GAPs from one of so many READs; the WAYs that tell them come to no READ twice."""
     best = {one: 0}
-    for _ in fetch[2]:
+    for _ in range(many):
         for (a, b), strict in told.items():
             if a in best and best[a] + strict > best.get(b, -1):
                 best[b] = best[a] + strict
-    return best.get(other)
+    return [best.get(other) for other in range(many)]
+
+
+def gap_by_words(fetch, one, other):
+    """The GAP of a FETCH that is possible."""
+    return gaps_by_words(fetch)[one][other]
+
+
+def is_possible_by_words(fetch):
+    """Whether versions that are raised along all ARROWs, as long as they have to be, come to rest."""
+    told = arrows_by_words(fetch)
+    versions = [0] * len(fetch[2])
+    rising = True
+    while rising and max(versions) < len(versions):
+        rising = False
+        for (one, other), strict in told.items():
+            if versions[other] < versions[one] + strict:
+                versions[other] = versions[one] + strict
+                rising = True
+    return not rising
+
+
+def follow(fetch, top):
+    """The list of all tuples of versions from 0 to top that follow the ARROWs, by the Fact of [5]."""
+    told = arrows_by_words(fetch).items()
+    tuples = itertools.product(range(top + 1), repeat=len(fetch[2]))
+    return [versions for versions in tuples if all(versions[a] + s <= versions[b] for (a, b), s in told)]
+
+
+def with_more(fetch, checks):
+    """The FETCH with CHECKs put behind the others."""
+    house, size, reads, ahead = fetch
+    return (house, size, reads, ahead + tuple(checks))
+
+
+def further_checks(glue):
+    """All FURTHER CHECKs of a GLUE, each "same" once."""
+    told = [(one, "upto", other) for one, other in itertools.permutations(glue, 2)]
+    return told + [(one, "same", other) for one, other in itertools.combinations(glue, 2)]
+
+
+def changed(thing):
+    """All that comes of a value if it is changed in one place, in ways that papers may be wrong in."""
+    if isinstance(thing, tuple):
+        for at, item in enumerate(thing):
+            head, tail = thing[:at], thing[at + 1:]
+            yield head + tail
+            yield head + (item, item) + tail
+            if tail:
+                yield head + (tail[0], item) + tail[1:]
+            for other in changed(item):
+                yield head + (other,) + tail
+        yield thing + (0,)
+        yield list(thing)
+    elif isinstance(thing, str):
+        for word in ("history", "ring", "apart", "checks", "never", "one", "alone", "first", "last", "", thing + " ") + WORDS:
+            yield word
+    else:
+        for number in list(range(6)) + [thing - 1, thing + 1, 99, 100, HUGE, True, None, str(thing), (thing,)]:
+            yield number
+    for other in (None, False, "x", (), 7):
+        yield other
+
+
+def are_numbers(thing, top):
+    """Whether it is a tuple of integers from 0 to top."""
+    return type(thing) is tuple and all(type(item) is int and 0 <= item <= top for item in thing)
+
+
+def is_empty(thing):
+    """Whether it is the tuple without items."""
+    return type(thing) is tuple and len(thing) == 0
+
+
+def is_way_by_words(fetch, numbers):
+    """Whether numbers of READs are a WAY."""
+    told = arrows_by_words(fetch)
+    return len(numbers) > 0 and all(step in told for step in zip(numbers, numbers[1:]))
+
+
+def is_ring_by_words(fetch, numbers):
+    """Whether numbers of READs are a RING."""
+    return len(numbers) > 1 and numbers[0] == numbers[-1] and is_way_by_words(fetch, numbers)
+
+
+def rises_by_words(fetch, way):
+    """Whether a WAY has a STRICT ARROW."""
+    told = arrows_by_words(fetch)
+    return any(told[step] for step in zip(way, way[1:]))
+
+
+class Asking(unittest.TestCase):
+    """A test case that asks for what is refused."""
+
+    def refused(self, kind, told, ask, *given):
+        """That a call raises an error of this class itself, with these attributes and no other ones."""
+        with self.assertRaises(kind) as caught:
+            ask(*given)
+        self.assertIs(caught.exception.__class__, kind)
+        self.assertEqual(set(vars(caught.exception)), set(told))
+        for name, worth in told.items():
+            found = getattr(caught.exception, name)
+            self.assertTrue(found is worth or (isinstance(worth, (str, int)) and found == worth), name)
+
+    def refuses_fetches(self, ask, *more):
+        """That a function refuses what is no FETCH, ahead of all else."""
+        for at, thing in enumerate(odd_things()):
+            with self.subTest(at=at):
+                self.assertRaises(BadFetch, ask, thing, *more)
+        house, size, reads, checks = side_by_side(3, [(0, "same", 1)])
+        for fetch, part, number in (
+                ((house, size, reads), "form", None), ([house, size, reads, checks], "form", None),
+                ((None, size, reads, checks), "house", None), ((house + (5,), size, reads, checks), "house", 1),
+                ((house, 0, reads, checks), "size", None), ((house, size, (), checks), "reads", None),
+                ((house, size, reads + (5,), checks), "reads", 3), ((house, size, reads, checks * 25), "checks", None),
+                ((house, size, reads, checks + ((0, "same", 3),)), "checks", 1)):
+            self.refused(BadFetch, {"part": part, "number": number}, ask, fetch, *more)
+
+    def refuses_impossible(self, ask, *more):
+        """That a function refuses FETCHes of three READs that are IMPOSSIBLE."""
+        for checks in ([(0, "newer", 1), (1, "newer", 0)], [(0, "upto", 1), (1, "upto", 2), (0, "newer", 2)],
+                       [(0, "same", 1), (0, "same", 2), (2, "newer", 1)]):
+            self.refused(BadQuestion, {}, ask, side_by_side(3, checks), *more)
+        self.refused(BadQuestion, {}, ask, one_by_one(3, [(0, "newer", 2)]), *more)

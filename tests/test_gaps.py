@@ -2,7 +2,7 @@
 
 import unittest
 
-from samples import (CHAIN, HUGE, ONE_PLACE, TREE, Thing, arrows_by_words, fetch_of, gap_by_words, odd_things,
+from samples import (CHAIN, HUGE, ONE_PLACE, TREE, Thing, arrows_by_words, fetch_of, gaps_by_words, odd_things,
                      one_by_one, side_by_side, some_fetches)
 from wholefetch.errors import BadFetch, BadHistory, BadNumber, BadPaper, BadQuestion
 from wholefetch.gaps import check_judged, few_versions, gap, is_possible, is_ring, is_way, judged, lets, level
@@ -83,7 +83,7 @@ class JudgedTest(GapsTest):
                 self.check_ring(fetch, told)
             else:
                 many = range(len(fetch[2]))
-                table = [[gap_by_words(fetch, one, other) for other in many] for one in many]
+                table = gaps_by_words(fetch)
                 least = tuple(max(row[at] for row in table if row[at] is not None) for at in many)
                 self.assertEqual(told, least)
                 self.assertEqual(level(fetch), least)

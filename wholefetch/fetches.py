@@ -1,7 +1,7 @@
 """FETCHes: READs of the PLACEs of a HOUSE, the CHECKs that have passed, and their ARROWs."""
 
 from wholefetch.errors import BadFetch, BadHouse, BadNumber
-from wholefetch.forms import is_row, is_whole, is_word
+from wholefetch.forms import is_between, is_row, is_word
 from wholefetch.houses import is_place_of, lies_under, need_house
 
 MOST_BYTES = 1000000000
@@ -20,7 +20,7 @@ def need_fetch(thing):
         need_house(house)
     except BadHouse as why:
         raise BadFetch("house", why.number) from None
-    if not is_whole(size, 1, MOST_BYTES):
+    if not is_between(size, 1, MOST_BYTES):
         raise BadFetch("size", None)
     if not is_row(reads, 1, MOST_READS):
         raise BadFetch("reads", None)
@@ -45,7 +45,7 @@ def is_read(house, size, thing):
 
 def is_span(low, high, top):
     """Whether they are integers from 0 to top, the first one less than the other one."""
-    return is_whole(low, 0, top) and is_whole(high, 0, top) and low < high
+    return is_between(low, 0, top) and is_between(high, 0, top) and low < high
 
 
 def is_check(many, thing):
@@ -55,12 +55,12 @@ def is_check(many, thing):
     one, word, other = thing
     if not is_word(word, WORDS):
         return False
-    return is_whole(one, 0, many - 1) and is_whole(other, 0, many - 1) and one != other
+    return is_between(one, 0, many - 1) and is_between(other, 0, many - 1) and one != other
 
 
 def need_number(fetch, given):
     """The number of a READ of the FETCH; BadNumber of anything else."""
-    if not is_whole(given, 0, len(fetch[2]) - 1):
+    if not is_between(given, 0, len(fetch[2]) - 1):
         raise BadNumber(given)
     return given
 
@@ -68,6 +68,11 @@ def need_number(fetch, given):
 def arrows(fetch):
     """The ascending tuple of the triples (A, B, STRICT): an ARROW leads from READ A to READ B."""
     house, size, reads, checks = need_fetch(fetch)
+    return arrows_of(house, reads, checks)
+
+
+def arrows_of(house, reads, checks):
+    """The ARROWs as arrows tells them, of any number of CHECKs."""
     strict = {pair: False for pair in arrows_of_moments(house, reads)}
     for check in checks:
         for one, other, rises in arrows_of_check(check):

@@ -4,7 +4,7 @@ Each question asks for the kind of a value first: nothing else is done with valu
 """
 
 
-def is_whole(thing, least, most):
+def is_between(thing, least, most):
     """Whether it is an integer within these bounds; True and False are none."""
     return isinstance(thing, int) and not isinstance(thing, bool) and least <= thing <= most
 
@@ -26,6 +26,11 @@ def is_row(thing, fewest, most):
     return isinstance(thing, tuple) and fewest <= len(thing) <= most
 
 
-def are_whole(thing, fewest, most, top):
+def are_between(thing, fewest, most, top):
     """Whether it is a tuple with so many items, all of them integers from 0 to top."""
-    return is_row(thing, fewest, most) and all([is_whole(item, 0, top) for item in thing])
+    return is_row(thing, fewest, most) and all([is_between(item, 0, top) for item in thing])
+
+
+def ascends(numbers):
+    """Whether each number of a row is less than the next one."""
+    return all([low < high for low, high in zip(numbers, numbers[1:])])

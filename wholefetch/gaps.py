@@ -2,7 +2,7 @@
 
 from wholefetch.errors import BadHistory, BadPaper, BadQuestion
 from wholefetch.fetches import arrows, need_number
-from wholefetch.forms import are_whole, is_row, is_word
+from wholefetch.forms import are_between, is_row, is_word
 
 TOP_VERSION = 99
 LONGEST_WAY = 200
@@ -84,12 +84,12 @@ def need_possible(told):
 
 def has_history_form(fetch, thing):
     """Whether it is a HISTORY of the FETCH by form."""
-    return are_whole(thing, len(fetch[2]), len(fetch[2]), TOP_VERSION)
+    return are_between(thing, len(fetch[2]), len(fetch[2]), TOP_VERSION)
 
 
 def has_way_form(fetch, thing):
     """Whether it is a tuple of numbers of READs that is not too long for a WAY or a RING."""
-    return are_whole(thing, 0, LONGEST_WAY, len(fetch[2]) - 1)
+    return are_between(thing, 0, LONGEST_WAY, len(fetch[2]) - 1)
 
 
 def follows(told, history):
@@ -116,11 +116,14 @@ def raised(told, floors):
     """
     versions = list(floors)
     for turn in range(len(floors)):
+        ahead = list(versions)
         for one, other, strict in told:
             if versions[one] is not None:
                 least = versions[one] + int(strict)
                 if versions[other] is None or versions[other] < least:
                     versions[other] = least
+        if versions == ahead:
+            break
     return versions
 
 
