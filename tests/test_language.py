@@ -143,6 +143,39 @@ class LanguageTest(unittest.TestCase):
                 if isinstance(node, ast.Call) and isinstance(node.func, ast.Attribute):
                     self.assertIn(node.func.attr, METHODS | own, name)
 
+    def test_methods_and_attributes_are_apart(self):
+        trees = [tree for name, text, tree in sources()]
+        classes = [node for tree in trees for node in tree.body if isinstance(node, ast.ClassDef)]
+        methods = {node.name for outer in classes for node in functions(outer)}
+        stored = {node.attr for tree in trees for node in ast.walk(tree)
+                  if isinstance(node, ast.Attribute) and isinstance(node.ctx, ast.Store)}
+        read = {node.attr for tree in trees for node in ast.walk(tree)
+                if isinstance(node, ast.Attribute) and isinstance(node.ctx, ast.Load)}
+        self.assertEqual(methods & stored, set())
+        self.assertLessEqual(read, methods | stored | METHODS)
+        for told in stored:
+            self.assertFalse(any(hasattr(kind, told) for kind in (str, int, list, dict, set, bytes)), told)
+
+    def test_classes(self):
+        for name, text, tree in sources():
+            for outer in [node for node in tree.body if isinstance(node, ast.ClassDef)]:
+                told = {node.name: node for node in functions(outer)}
+                self.assertEqual(len(told), len(functions(outer)))
+                self.assertTrue("__getitem__" not in told or "__iter__" in told)
+                for node in told.values():
+                    marks = [mark.id for mark in node.decorator_list]
+                    self.assertIn(marks, ([], ["property"]))
+                    self.assertTrue(not marks or len(node.args.args) == 1)
+                # Behind a block nothing may go wrong, so values are only put where they were.
+                for row in told["__exit__"].body if "__exit__" in told else []:
+                    self.assertIsInstance(row, ast.Assign)
+                    self.assertIsInstance(row.value, (ast.Attribute, ast.Name))
+
+    def test_nothing_is_decorated_outside_of_classes(self):
+        for name, text, tree in sources():
+            for node in tree.body:
+                self.assertEqual(getattr(node, "decorator_list", []), [])
+
 
 if __name__ == "__main__":
     unittest.main()

@@ -65,6 +65,25 @@ def need_number(fetch, given):
     return given
 
 
+def with_check(fetch, check):
+    """The FETCH with a CHECK put behind the others; BadFetch of what comes of it."""
+    house, size, reads, checks = fetch
+    return need_fetch((house, size, reads, checks + (check,)))
+
+
+def without_check(fetch, number):
+    """The FETCH with a CHECK taken out; BadNumber of what is no number of one."""
+    house, size, reads, checks = fetch
+    if not is_between(number, 0, len(checks) - 1):
+        raise BadNumber(number)
+    return (house, size, reads, without(checks, number))
+
+
+def without(checks, at):
+    """The CHECKs but one."""
+    return checks[:at] + checks[at + 1:]
+
+
 def arrows(fetch):
     """The ascending tuple of the triples (A, B, STRICT): an ARROW leads from READ A to READ B."""
     house, size, reads, checks = need_fetch(fetch)

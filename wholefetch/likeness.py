@@ -1,7 +1,7 @@
 """ALIKE FETCHes, which have the same HISTORIES, and CHECKs that are NEEDLESS."""
 
 from wholefetch.errors import BadQuestion
-from wholefetch.fetches import arrows, arrows_of, need_fetch
+from wholefetch.fetches import arrows, arrows_of, need_fetch, without
 from wholefetch.gaps import follows, raised, strict_ring
 
 
@@ -36,11 +36,6 @@ def lean(fetch):
         else:
             at += 1
     return (house, size, reads, checks)
-
-
-def without(checks, at):
-    """The CHECKs but one."""
-    return checks[:at] + checks[at + 1:]
 
 
 def is_needless(house, reads, checks, at):
